@@ -1,0 +1,107 @@
+"""Whole numbers: primes, divisors, and numbers modulo a number."""
+
+from math import gcd
+
+from fieldmaps.errors import ZeroDivisor
+
+
+def is_integer(value):
+    """True if the value is an integer and not True or False."""
+    return isinstance(value, int) and not isinstance(value, bool)
+
+
+def is_prime(n):
+    """True if the integer n is a prime number."""
+    return n > 1 and least_divisor(n, 2) == n
+
+
+def least_divisor(n, start):
+    """The least prime divisor of n, from 2 on, if all of them are at least the prime number start."""
+    candidate = start
+    while candidate * candidate <= n:
+        if n % candidate == 0:
+            return candidate
+        candidate = 3 if candidate == 2 else candidate + 2
+    return n
+
+
+def prime_powers(n):
+    """The pairs (p, k), ascending, with n, from 1 on, the product of the p^k."""
+    pairs = []
+    rest = n
+    p = 2
+    while rest > 1:
+        # The primes below p are already divided out of the rest.
+        p = least_divisor(rest, p)
+        k = 0
+        while rest % p == 0:
+            rest = rest // p
+            k += 1
+        pairs.append((p, k))
+    return tuple(pairs)
+
+
+def divisors(n):
+    """The positive divisors of n, from 1 on, ascending."""
+    found = [1]
+    for p, k in prime_powers(n):
+        multiples = found
+        for _ in range(k):
+            multiples = [p * divisor for divisor in multiples]
+            found = found + multiples
+    return tuple(sorted(found))
+
+
+def common(numbers):
+    """The greatest common divisor of integers, 0 if all are 0 or there are none."""
+    divisor = 0
+    for number in numbers:
+        divisor = gcd(divisor, number)
+    return divisor
+
+
+def cofactors(a, b):
+    """(g, u, v) with the greatest common divisor g and g = u a + v b."""
+    g, u, v = a, 1, 0
+    rest, rest_u, rest_v = b, 0, 1
+    # Each round keeps g = u a + v b, and the same for the rest.
+    while rest != 0:
+        quotient = g // rest
+        g, rest = rest, g - quotient * rest
+        u, rest_u = rest_u, u - quotient * rest_u
+        v, rest_v = rest_v, v - quotient * rest_v
+    if g < 0:
+        return -g, -u, -v
+    return g, u, v
+
+
+def power_modulo(a, k, m):
+    """The remainder of a^k by m, for k from 0 on and m from 1 on."""
+    # With the modulus 1 the power 0 is 0, too.
+    power = 1 % m
+    square = a % m
+    rest = k
+    while rest > 0:
+        if rest % 2 == 1:
+            power = power * square % m
+        square = square * square % m
+        rest = rest // 2
+    return power
+
+
+def inverse_modulo(a, m):
+    """The inverse of a modulo m, from 0 to m - 1; raises ZeroDivisor if a and m are not coprime."""
+    g, u, _ = cofactors(a, m)
+    if g != 1:
+        raise ZeroDivisor("the number and the modulus are not coprime")
+    return u % m
+
+
+def moebius(n):
+    """The Moebius number of n, from 1 on."""
+    number = 1
+    for _, k in prime_powers(n):
+        if k > 1:
+            return 0
+        number = -number
+    return number

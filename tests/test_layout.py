@@ -1,0 +1,119 @@
+"""The package as a whole: its folder, its interface, and the sizes that its files keep."""
+
+import ast
+import inspect
+import unittest
+from importlib import import_module
+from pathlib import Path
+
+PACKAGE = Path(__file__).resolve().parent.parent / "fieldmaps"
+
+# Each module with its functions and their parameters, as the document lists them.
+FUNCTIONS = {
+    "whole": {
+        "is_integer": ["value"],
+        "is_prime": ["n"],
+        "prime_powers": ["n"],
+        "divisors": ["n"],
+        "common": ["numbers"],
+        "cofactors": ["a", "b"],
+        "power_modulo": ["a", "k", "m"],
+        "inverse_modulo": ["a", "m"],
+        "moebius": ["n"],
+    },
+    "linear": {
+        "dot": ["field", "a", "b"],
+        "combine": ["field", "rows", "width", "weights"],
+        "reduced": ["field", "rows", "width"],
+        "kernel": ["field", "rows", "width"],
+        "solve": ["field", "rows", "width", "right"],
+        "coordinates": ["field", "rows", "vector"],
+        "determinant": ["field", "rows"],
+    },
+}
+
+CLASSES = {"errors": ["Fault", "ZeroDivisor", "Malformed", "Refused", "NoText"]}
+
+# What may be imported from outside of the package.
+LIBRARY = {"math": {"gcd", "lcm", "isqrt", "comb", "perm", "factorial"}}
+
+
+def tree_of(path):
+    return ast.parse(path.read_text(encoding="utf-8"))
+
+
+def package_files():
+    return sorted(PACKAGE.glob("*.py"))
+
+
+def defined_in(module, kind):
+    return {node.name for node in tree_of(PACKAGE / f"{module}.py").body if isinstance(node, kind)}
+
+
+class TestFolder(unittest.TestCase):
+    def test_it_holds_python_files_alone(self):
+        others = [path.name for path in PACKAGE.iterdir() if path.suffix != ".py" and path.name != "__pycache__"]
+        self.assertEqual(others, [])
+
+    def test_init_defines_nothing(self):
+        self.assertEqual(tree_of(PACKAGE / "__init__.py").body, [])
+
+
+class TestInterface(unittest.TestCase):
+    def test_functions_are_defined_in_their_files(self):
+        for module, functions in FUNCTIONS.items():
+            defined = defined_in(module, ast.FunctionDef)
+            for name in functions:
+                self.assertIn(name, defined, module)
+
+    def test_functions_have_their_parameters(self):
+        for module, functions in FUNCTIONS.items():
+            for name, parameters in functions.items():
+                function = getattr(import_module(f"fieldmaps.{module}"), name)
+                self.assertEqual(list(inspect.signature(function).parameters), parameters, name)
+
+    def test_classes_are_defined_in_their_files(self):
+        for module, classes in CLASSES.items():
+            defined = defined_in(module, ast.ClassDef)
+            for name in classes:
+                self.assertIn(name, defined, module)
+
+
+class TestSizes(unittest.TestCase):
+    def test_lines_and_characters(self):
+        for path in package_files():
+            text = path.read_bytes().decode("ascii")
+            self.assertLessEqual(len(text.splitlines()), 399, path.name)
+            for line in text.split("\n"):
+                self.assertLessEqual(len(line), 120, path.name)
+                self.assertTrue(all(" " <= sign <= "~" for sign in line), path.name)
+
+    def test_functions(self):
+        for path in package_files():
+            for node in ast.walk(tree_of(path)):
+                if isinstance(node, ast.FunctionDef):
+                    self.assertLessEqual(node.end_lineno - node.lineno + 1, 40, f"{path.name} {node.name}")
+
+
+class TestImports(unittest.TestCase):
+    def test_only_from_the_package_and_the_allowed_library(self):
+        for path in package_files():
+            for node in ast.walk(tree_of(path)):
+                self.assertNotIsInstance(node, ast.Import, path.name)
+                if isinstance(node, ast.ImportFrom):
+                    self.check_import(path.name, node)
+
+    def check_import(self, file_name, node):
+        names = {alias.name for alias in node.names}
+        self.assertEqual(node.level, 0, file_name)
+        self.assertEqual([alias.asname for alias in node.names], [None] * len(names), file_name)
+        if node.module.startswith("fieldmaps."):
+            module = node.module.removeprefix("fieldmaps.")
+            defined = defined_in(module, (ast.FunctionDef, ast.ClassDef))
+            self.assertLessEqual(names, defined, file_name)
+        else:
+            self.assertLessEqual(names, LIBRARY.get(node.module, set()), file_name)
+
+
+if __name__ == "__main__":
+    unittest.main()
