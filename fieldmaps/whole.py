@@ -75,18 +75,46 @@ def cofactors(a, b):
     return g, u, v
 
 
-def power_modulo(a, k, m):
-    """The remainder of a^k by m, for k from 0 on and m from 1 on."""
-    # With the modulus 1 the power 0 is 0, too.
-    power = 1 % m
-    square = a % m
+def by_squaring(one, base, k, product):
+    """The product of k times the base, for k from 0 on, where product(x, y) multiplies and one is its unit."""
+    power = one
+    square = base
     rest = k
     while rest > 0:
         if rest % 2 == 1:
-            power = power * square % m
-        square = square * square % m
+            power = product(power, square)
         rest = rest // 2
+        # The last square would be the largest one, and nothing needs it.
+        if rest > 0:
+            square = product(square, square)
     return power
+
+
+def power_modulo(a, k, m):
+    """The remainder of a^k by m, for k from 0 on and m from 1 on."""
+    # With the modulus 1 the power 0 is 0, too.
+    return by_squaring(1 % m, a % m, k, lambda x, y: x * y % m)
+
+
+def power_within(a, k, limit):
+    """a^k, for a from 2 and k from 0 on, or None if it is above the limit."""
+    power = 1
+    for _ in range(k):
+        power = power * a
+        # Powers far beyond the limit would take long to work out.
+        if power > limit:
+            return None
+    return power
+
+
+def digits(number, base, count):
+    """The tuple of the last `count` digits of a number from 0 on, the ones first."""
+    found = []
+    rest = number
+    for _ in range(count):
+        found.append(rest % base)
+        rest = rest // base
+    return tuple(found)
 
 
 def inverse_modulo(a, m):

@@ -30,9 +30,96 @@ FUNCTIONS = {
         "coordinates": ["field", "rows", "vector"],
         "determinant": ["field", "rows"],
     },
+    "rows": {
+        "trimmed": ["row", "p"],
+        "add_rows": ["a", "b", "p"],
+        "subtract_rows": ["a", "b", "p"],
+        "multiply_rows": ["a", "b", "p"],
+        "divide_rows": ["a", "b", "p"],
+        "common_row": ["a", "b", "p"],
+        "power_row": ["a", "k", "m", "p"],
+        "is_irreducible_row": ["m", "p"],
+    },
+    "poly": {
+        "constant": ["field", "a"],
+        "monomial": ["field", "a", "k"],
+        "variable": ["field"],
+        "common_divisor": ["f", "g"],
+        "cofactors": ["f", "g"],
+    },
+    "irreducible": {
+        "is_irreducible": ["f"],
+        "count_irreducible": ["q", "n"],
+        "least_irreducible": ["field", "n"],
+        "all_irreducible": ["field", "n"],
+    },
 }
 
-CLASSES = {"errors": ["Fault", "ZeroDivisor", "Malformed", "Refused", "NoText"]}
+# Each module with its classes, and the methods that stand in their bodies, with what they take behind self.
+CLASSES = {
+    "errors": {
+        "Fault": {},
+        "ZeroDivisor": {},
+        "Malformed": {},
+        "Refused": {"__init__": ["reason"]},
+        "NoText": {"__init__": ["at"]},
+    },
+    "field": {
+        "Field": {
+            "__init__": ["p", "modulus"],
+            "__eq__": ["other"],
+            "is_member": ["value"],
+            "zero": [],
+            "one": [],
+            "generator": [],
+            "integer": ["k"],
+            "add": ["a", "b"],
+            "subtract": ["a", "b"],
+            "negative": ["a"],
+            "multiply": ["a", "b"],
+            "inverse": ["a"],
+            "divide": ["a", "b"],
+            "power": ["a", "k"],
+            "frobenius": ["a", "k"],
+            "number": ["a"],
+            "member": ["number"],
+            "members": [],
+            "written": ["a"],
+            "read_member": ["text"],
+        },
+    },
+    "poly": {
+        "Poly": {
+            "__init__": ["field", "row"],
+            "__add__": ["other"],
+            "__sub__": ["other"],
+            "__mul__": ["other"],
+            "__neg__": [],
+            "__floordiv__": ["other"],
+            "__mod__": ["other"],
+            "__eq__": ["other"],
+            "__call__": ["a"],
+            "__str__": [],
+            "degree": [],
+            "is_zero": [],
+            "leading": [],
+            "coefficient": ["k"],
+            "scaled": ["a"],
+            "monic": [],
+            "derivative": [],
+            "power": ["k"],
+            "power_modulo": ["k", "m"],
+            "put": ["g"],
+            "key": [],
+        },
+    },
+}
+
+# The default values that the document names: module, class or None, function, parameter, value.
+DEFAULTS = (
+    ("field", "Field", "__init__", "modulus", (0, 1)),
+    ("field", "Field", "frobenius", "k", 1),
+)
 
 # What may be imported from outside of the package.
 LIBRARY = {"math": {"gcd", "lcm", "isqrt", "comb", "perm", "factorial"}}
@@ -77,6 +164,20 @@ class TestInterface(unittest.TestCase):
             defined = defined_in(module, ast.ClassDef)
             for name in classes:
                 self.assertIn(name, defined, module)
+
+    def test_methods_stand_in_the_bodies_of_their_classes(self):
+        for module, classes in CLASSES.items():
+            for name, methods in classes.items():
+                body = vars(getattr(import_module(f"fieldmaps.{module}"), name))
+                for method, parameters in methods.items():
+                    self.assertIn(method, body, name)
+                    self.assertEqual(list(inspect.signature(body[method]).parameters)[1:], parameters, method)
+
+    def test_default_values(self):
+        for module, owner, name, parameter, value in DEFAULTS:
+            holder = import_module(f"fieldmaps.{module}")
+            function = getattr(getattr(holder, owner) if owner else holder, name)
+            self.assertEqual(inspect.signature(function).parameters[parameter].default, value, name)
 
 
 class TestSizes(unittest.TestCase):

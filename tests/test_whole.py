@@ -5,14 +5,17 @@ from math import gcd, prod
 
 from fieldmaps.errors import Refused, ZeroDivisor
 from fieldmaps.whole import (
+    by_squaring,
     cofactors,
     common,
+    digits,
     divisors,
     inverse_modulo,
     is_integer,
     is_prime,
     moebius,
     power_modulo,
+    power_within,
     prime_powers,
 )
 from tests.small_fields import FOUR
@@ -225,6 +228,28 @@ class TestMoebius(unittest.TestCase):
                 self.assertEqual(moebius(n), 0, n)
             else:
                 self.assertEqual(moebius(n), (-1) ** len([p for p in primes if n % p == 0]), n)
+
+
+class TestHelpers(unittest.TestCase):
+    """What other modules of the package use, beside the interface."""
+
+    def test_by_squaring_keeps_the_order_of_the_terms(self):
+        for k in range(40):
+            self.assertEqual(by_squaring("", "ab", k, lambda x, y: x + y), "ab" * k)
+
+    def test_power_within(self):
+        for a in (2, 3, 7, 400):
+            for k in range(8):
+                for limit in (1, 8, 9, 400, 2000):
+                    self.assertEqual(power_within(a, k, limit), a**k if a**k <= limit else None)
+        self.assertIsNone(power_within(2, 10**100, 400))
+
+    def test_digits(self):
+        self.assertEqual(digits(0, 2, 3), (0, 0, 0))
+        self.assertEqual(digits(5, 2, 4), (1, 0, 1, 0))
+        self.assertEqual(digits(1234, 10, 4), (4, 3, 2, 1))
+        self.assertEqual(digits(1234, 10, 2), (4, 3))
+        self.assertEqual(digits(7, 3, 0), ())
 
 
 if __name__ == "__main__":
