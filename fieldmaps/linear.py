@@ -58,7 +58,12 @@ def with_leading_one(field, row, column):
 
 def cleared(field, rows, pivot_row, column):
     """The list of the rows less the multiples of the pivot row that leave zeros in the column."""
-    return [add_multiple(field, row, field.negative(row[column]), pivot_row) for row in rows]
+    zero = field.zero()
+    # Most rows of sparse matrices have a zero there already.
+    return [
+        row if row[column] == zero else add_multiple(field, row, field.negative(row[column]), pivot_row)
+        for row in rows
+    ]
 
 
 def kernel(field, rows, width):

@@ -25,8 +25,7 @@ def trimmed(row, p):
 def add_rows(a, b, p):
     """The sum of two polynomials."""
     length = max(len(a), len(b))
-    pairs = zip(filled_up(a, length, 0), filled_up(b, length, 0))
-    return trimmed([x + y for x, y in pairs], p)
+    return trimmed([x + y for x, y in zip(filled_up(a, length, 0), filled_up(b, length, 0))], p)
 
 
 def subtract_rows(a, b, p):

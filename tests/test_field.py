@@ -292,6 +292,9 @@ class TestArithmetic(unittest.TestCase):
         for field, a, b in self.pairs():
             self.assertEqual(field.multiply(a, b), member_product(field.p, field.modulus, a, b))
 
+    def test_example(self):
+        self.assertEqual(F9.written(F9.multiply((1, 1), (1, 2))), "2")
+
     def test_products_modulo_every_modulus(self):
         for p, degree in ((2, 3), (2, 4), (3, 2), (5, 2)):
             for modulus in monic_rows(p, degree):

@@ -53,6 +53,26 @@ FUNCTIONS = {
         "least_irreducible": ["field", "n"],
         "all_irreducible": ["field", "n"],
     },
+    "factoring": {
+        "is_squarefree": ["f"],
+        "squarefree_parts": ["f"],
+        "fixed_space": ["f"],
+        "divided": ["f"],
+        "factors": ["f"],
+        "roots": ["f"],
+    },
+    "maps": {
+        "all_maps": ["a", "b"],
+        "isomorphisms": ["a", "b"],
+        "power_map": ["field", "k"],
+    },
+    "subfields": {
+        "subfield": ["field", "d"],
+        "is_in_subfield": ["field", "a", "d"],
+        "degree_of": ["field", "a"],
+        "common_degree": ["field", "members"],
+        "least_of_degree": ["field", "d"],
+    },
 }
 
 # Each module with its classes, and the methods that stand in their bodies, with what they take behind self.
@@ -113,12 +133,31 @@ CLASSES = {
             "key": [],
         },
     },
+    "maps": {
+        "FieldMap": {
+            "__init__": ["source", "target", "image"],
+            "__call__": ["a"],
+            "__eq__": ["other"],
+            "after": ["g"],
+            "inverse": [],
+            "on_poly": ["p"],
+        },
+    },
 }
 
 # The default values that the document names: module, class or None, function, parameter, value.
 DEFAULTS = (
     ("field", "Field", "__init__", "modulus", (0, 1)),
     ("field", "Field", "frobenius", "k", 1),
+    ("maps", None, "power_map", "k", 1),
+)
+
+# The modules by chapters (point 0.1), each after those that it may import from.
+ORDER = (
+    "errors", "whole", "linear",
+    "rows", "field", "poly",
+    "irreducible", "factoring",
+    "maps", "subfields",
 )
 
 # What may be imported from outside of the package.
@@ -203,6 +242,13 @@ class TestImports(unittest.TestCase):
                 self.assertNotIsInstance(node, ast.Import, path.name)
                 if isinstance(node, ast.ImportFrom):
                     self.check_import(path.name, node)
+
+    def test_only_from_modules_that_stand_before(self):
+        self.assertEqual(sorted(ORDER), sorted(path.stem for path in package_files() if path.stem != "__init__"))
+        for at, module in enumerate(ORDER):
+            for node in tree_of(PACKAGE / f"{module}.py").body:
+                if isinstance(node, ast.ImportFrom) and node.module.startswith("fieldmaps."):
+                    self.assertIn(node.module.removeprefix("fieldmaps."), ORDER[:at], module)
 
     def check_import(self, file_name, node):
         names = {alias.name for alias in node.names}
