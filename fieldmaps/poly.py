@@ -161,8 +161,7 @@ def cofactors(f, g):
     u = u.scaled(factor)
     if g.is_zero():
         return divisor, u, nothing
-    # Any multiple of g / d may be taken from u, if v makes up for it.
-    u = u % (g // divisor)
+    # The rounds have left u zero or of a lower degree than g / d, so only v is missing.
     return divisor, u, (divisor - u * f) // g
 
 

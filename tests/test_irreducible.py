@@ -3,6 +3,7 @@
 import unittest
 
 from fieldmaps.errors import Refused
+from fieldmaps.field import Field
 from fieldmaps.irreducible import all_irreducible, count_irreducible, is_irreducible, least_irreducible
 from fieldmaps.poly import Poly
 from tests.plain import (
@@ -139,7 +140,8 @@ class TestAll(unittest.TestCase):
                 self.assertEqual(list(found), irreducible_by_trial(field, degree))
 
     def test_order(self):
-        for field, n in ((F2, 10), (F3, 6), (F4, 5), (F25, 2), (F397, 1)):
+        # Of the sizes up to 2000 that occur, 43^2 is the greatest one; 2^11 is the first one beyond.
+        for field, n in ((F2, 10), (F3, 6), (F4, 5), (F25, 2), (F397, 1), (Field(43), 2)):
             found = all_irreducible(field, n)
             keys = [f.key() for f in found]
             self.assertEqual(keys, sorted(set(keys)))
