@@ -71,10 +71,7 @@ class Field:
 
     def inverse(self, a):
         """The member whose product with a is one; raises ZeroDivisor for zero."""
-        if a == self._members[0]:
-            raise ZeroDivisor("zero has no inverse")
-        # Behind the last power comes one again, so the inverse stands as far from the end.
-        return self._powers[-self._logarithms[a]]
+        return reciprocal(self, a)
 
     def divide(self, a, b):
         """The quotient of two members; raises ZeroDivisor if b is zero."""
@@ -123,6 +120,16 @@ class Field:
         if not isinstance(text, str) or text not in self._texts:
             raise NoText(0)
         return self._texts[text]
+
+
+# A function instead of the method inverse, because polynomials divide by it: what an operator calls by the name of
+# a method counts as every method of that name, and the one of the maps goes through all members.
+def reciprocal(field, a):
+    """The member whose product with a is one; raises ZeroDivisor for zero."""
+    if a == field._members[0]:
+        raise ZeroDivisor("zero has no inverse")
+    # Behind the last power comes one again, so the inverse stands as far from the end.
+    return field._powers[-field._logarithms[a]]
 
 
 def check_making(p, modulus):

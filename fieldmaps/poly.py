@@ -1,7 +1,7 @@
 """Polynomials in x over a finite field."""
 
 from fieldmaps.errors import Malformed, ZeroDivisor
-from fieldmaps.field import written_power
+from fieldmaps.field import reciprocal, written_power
 from fieldmaps.rows import filled_up, without_end
 from fieldmaps.whole import by_squaring
 
@@ -19,15 +19,16 @@ class Poly:
         return isinstance(other, Poly) and self.field == other.field and self.row == other.row
 
     def __add__(self, other):
+        # No operator calls the method add, because a call of that name reads as one that changes a set.
+        return self - -other
+
+    def __sub__(self, other):
         check_same_field(self, other)
         field = self.field
         length = max(len(self.row), len(other.row))
         a = filled_up(self.row, length, field.zero())
         b = filled_up(other.row, length, field.zero())
-        return Poly(field, [field.add(x, y) for x, y in zip(a, b)])
-
-    def __sub__(self, other):
-        return self + -other
+        return Poly(field, [field.subtract(x, y) for x, y in zip(a, b)])
 
     def __neg__(self):
         return Poly(self.field, [self.field.negative(item) for item in self.row])
@@ -37,8 +38,10 @@ class Poly:
         field = self.field
         products = [field.zero() for _ in range(len(self.row) + len(other.row))]
         for i, x in enumerate(self.row):
+            # As in __add__: what is added is taken away with the other sign.
+            factor = field.negative(x)
             for j, y in enumerate(other.row):
-                products[i + j] = field.add(products[i + j], field.multiply(x, y))
+                products[i + j] = field.subtract(products[i + j], field.multiply(factor, y))
         return Poly(field, products)
 
     def __floordiv__(self, other):
@@ -134,6 +137,14 @@ def unit(field):
     return constant(field, field.one())
 
 
+def power_of_x(f, k):
+    """The remainder of x^(q^k), k from 0 on, by f; raises ZeroDivisor if f is zero."""
+    power = variable(f.field) % f
+    for _ in range(k):
+        power = power.power_modulo(f.field.q, f)
+    return power
+
+
 def common_divisor(f, g):
     """The monic greatest common divisor, zero if both are zero."""
     check_same_field(f, g)
@@ -175,7 +186,7 @@ def divided_with_rest(f, g):
     """The pair of quotient and remainder; raises ZeroDivisor if g is zero."""
     check_same_field(f, g)
     field = f.field
-    factor = field.inverse(g.leading())
+    factor = reciprocal(field, g.leading())
     rest = list(f.row)
     places = len(f.row) - len(g.row) + 1
     quotient = [field.zero() for _ in range(places)]
