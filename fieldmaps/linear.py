@@ -26,6 +26,16 @@ def add_multiple(field, row, weight, other):
     return tuple([field.add(x, field.multiply(weight, y)) for x, y in zip(row, other)])
 
 
+def unit_vector(field, width, at):
+    """The vector with one at the index and zeros elsewhere."""
+    return tuple([field.one() if k == at else field.zero() for k in range(width)])
+
+
+def windows(row, width, count):
+    """The matrix of the first `count` runs of neighbours in a vector, each as long as the width."""
+    return tuple([row[k:k + width] for k in range(count)])
+
+
 def reduced(field, rows, width):
     """The pair (rows, pivots) of the reduced matrix with the same span."""
     done = []
@@ -97,6 +107,14 @@ def coordinates(field, rows, vector):
     """The multiples of the independent rows whose sum is the vector, or None."""
     columns = tuple([tuple([row[at] for row in rows]) for at in range(len(vector))])
     return solve(field, columns, len(rows), vector)
+
+
+def inverse_matrix(field, rows):
+    """The square matrix whose product with the rows, which are independent, is the unit matrix."""
+    width = len(rows)
+    wider = tuple([row + unit_vector(field, width, at) for at, row in enumerate(rows)])
+    # What makes the left half the unit matrix makes the inverse of what was the unit matrix.
+    return tuple([row[width:] for row in reduced(field, wider, 2 * width)[0]])
 
 
 def determinant(field, rows):

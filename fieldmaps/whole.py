@@ -41,6 +41,11 @@ def prime_powers(n):
     return tuple(pairs)
 
 
+def prime_divisors(n):
+    """The ascending tuple of the prime numbers that divide n, from 1 on."""
+    return tuple([p for p, _ in prime_powers(n)])
+
+
 def divisors(n):
     """The positive divisors of n, from 1 on, ascending."""
     found = [1]
@@ -88,6 +93,17 @@ def by_squaring(one, base, k, product):
         if rest > 0:
             square = product(square, square)
     return power
+
+
+def least_exponent(start, is_one):
+    """The least exponent from 1 on with the power one, where is_one(k) tells so of the power k; `start` has it."""
+    exponent = start
+    for p, k in prime_powers(start):
+        for _ in range(k):
+            # The exponents with the power one are the multiples of the least one.
+            if is_one(exponent // p):
+                exponent = exponent // p
+    return exponent
 
 
 def power_modulo(a, k, m):

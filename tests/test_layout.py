@@ -73,6 +73,56 @@ FUNCTIONS = {
         "common_degree": ["field", "members"],
         "least_of_degree": ["field", "d"],
     },
+    "conjugates": {
+        "conjugates": ["field", "a", "d"],
+        "least_polynomial": ["field", "a", "d"],
+        "trace": ["field", "a", "d"],
+        "norm": ["field", "a", "d"],
+        "least_row": ["field", "a"],
+        "is_normal": ["field", "a"],
+        "least_normal": ["field"],
+        "normal_members": ["field"],
+    },
+    "orders": {
+        "order_of": ["field", "a"],
+        "is_primitive": ["field", "a"],
+        "least_primitive": ["field"],
+        "all_primitive": ["field"],
+        "members_of_order": ["field", "k"],
+        "logarithm": ["field", "b", "a"],
+        "is_power": ["field", "a", "k"],
+        "roots_of": ["field", "a", "k"],
+        "roots_of_unity": ["field", "k"],
+        "square_root": ["field", "a"],
+    },
+    "recurrences": {
+        "least_recurrence": ["field", "terms"],
+        "order_of_x": ["f"],
+    },
+    "papers": {
+        "irreducible_paper": ["f"],
+        "factors_paper": ["f"],
+        "maps_paper": ["a", "b"],
+        "order_paper": ["field", "a"],
+        "recurrence_paper": ["field", "terms"],
+    },
+    "checker": {
+        "takes_irreducible": ["f", "paper"],
+        "takes_factors": ["f", "paper"],
+        "takes_maps": ["a", "b", "paper"],
+        "takes_order": ["field", "a", "paper"],
+        "takes_recurrence": ["field", "terms", "paper"],
+    },
+    "sheet": {
+        "read_line": ["line"],
+        "row_text": ["numbers"],
+    },
+    "replies": {
+        "reply_to": ["fields", "line"],
+        "defined": ["fields", "line"],
+        "is_right": ["fields", "entry"],
+        "first_wrong": ["entries"],
+    },
 }
 
 # Each module with its classes, and the methods that stand in their bodies, with what they take behind self.
@@ -143,6 +193,28 @@ CLASSES = {
             "on_poly": ["p"],
         },
     },
+    "recurrences": {
+        "Recurrence": {
+            "__init__": ["field", "multiples"],
+            "__eq__": ["other"],
+            "__len__": [],
+            "polynomial": [],
+            "terms": ["first", "count"],
+            "term": ["first", "k"],
+            "is_satisfied": ["row"],
+            "least": ["first"],
+            "period": ["first"],
+        },
+    },
+    "console": {
+        "Console": {
+            "__init__": [],
+            "__len__": [],
+            "enter": ["line"],
+            "entries": [],
+            "fields": [],
+        },
+    },
 }
 
 # The default values that the document names: module, class or None, function, parameter, value.
@@ -150,6 +222,10 @@ DEFAULTS = (
     ("field", "Field", "__init__", "modulus", (0, 1)),
     ("field", "Field", "frobenius", "k", 1),
     ("maps", None, "power_map", "k", 1),
+    ("conjugates", None, "conjugates", "d", 1),
+    ("conjugates", None, "least_polynomial", "d", 1),
+    ("conjugates", None, "trace", "d", 1),
+    ("conjugates", None, "norm", "d", 1),
 )
 
 # The modules by chapters (point 0.1), each after those that it may import from.
@@ -157,7 +233,11 @@ ORDER = (
     "errors", "whole", "linear",
     "rows", "field", "poly",
     "irreducible", "factoring",
-    "maps", "subfields",
+    "maps", "subfields", "conjugates",
+    "orders",
+    "recurrences",
+    "papers", "checker",
+    "sheet", "replies", "console",
 )
 
 # What may be imported from outside of the package.

@@ -3,7 +3,18 @@
 import unittest
 from itertools import permutations, product
 
-from fieldmaps.linear import combine, coordinates, determinant, dot, kernel, reduced, solve
+from fieldmaps.linear import (
+    combine,
+    coordinates,
+    determinant,
+    dot,
+    inverse_matrix,
+    kernel,
+    reduced,
+    solve,
+    unit_vector,
+    windows,
+)
 from tests.small_fields import ALL_FIELDS, FIVE, FOUR, NINE, SEVEN, THREE, TWO, over, square_members, vector
 
 # The members of the field of four: t is (0, 1), and t^2 = t + 1.
@@ -341,6 +352,34 @@ class TestDeterminant(unittest.TestCase):
             rows = tuple(tuple(members[(start * k * k + 2 * k + start // 5) % 9] for k in range(at, at + 3))
                          for at in (0, 3, 6))
             self.assertEqual(determinant(NINE, rows), by_permutations(NINE, rows))
+
+
+class TestHelpers(unittest.TestCase):
+    """What other modules of the package use, beside the interface."""
+
+    def test_unit_vector(self):
+        self.assertEqual(unit_vector(FOUR, 3, 0), (I4, O4, O4))
+        self.assertEqual(unit_vector(FOUR, 3, 2), (O4, O4, I4))
+        self.assertEqual(unit_vector(FIVE, 1, 0), ((1,),))
+
+    def test_inverse_matrix(self):
+        sizes = ((TWO, [(0,), (1,)], 3), (THREE, [(0,), (1,), (2,)], 2), (FOUR, square_members(2), 2))
+        for field, members, size in sizes:
+            unit = tuple(unit_vector(field, size, at) for at in range(size))
+            for rows in matrices(members, size, size):
+                if by_permutations(field, rows) != field.zero():
+                    inverse = inverse_matrix(field, rows)
+                    self.assertEqual(tuple(plain_sum(field, rows, size, weights) for weights in inverse), unit)
+        self.assertEqual(inverse_matrix(FOUR, ()), ())
+
+    def test_windows(self):
+        row = vector(5, 1, 2, 3, 4)
+        self.assertEqual(windows(row, 2, 3), (row[0:2], row[1:3], row[2:4]))
+        self.assertEqual(windows(row, 2, 1), (row[0:2],))
+        self.assertEqual(windows(row, 4, 1), (row,))
+        self.assertEqual(windows(row, 0, 4), ((), (), (), ()))
+        self.assertEqual(windows(row, 4, 0), ())
+        self.assertEqual(windows(row, 6, -2), ())
 
 
 if __name__ == "__main__":

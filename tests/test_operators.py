@@ -73,8 +73,10 @@ class TestOperators(unittest.TestCase):
         found = {(owner, method.name) for _, owner, method in Package(package_sources()).operators()}
         for name in ("__add__", "__sub__", "__mul__", "__neg__", "__floordiv__", "__mod__", "__eq__", "__str__"):
             self.assertIn(("Poly", name), found)
-        for owner in ("Field", "FieldMap"):
+        for owner in ("Field", "FieldMap", "Recurrence"):
             self.assertIn((owner, "__eq__"), found)
+        for owner in ("Recurrence", "Console"):
+            self.assertIn((owner, "__len__"), found)
 
     def test_what_is_created_may_be_changed(self):
         self.assertEqual(faults({"bags": GOOD}), [])

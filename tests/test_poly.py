@@ -5,7 +5,7 @@ from itertools import product
 
 from fieldmaps.errors import Malformed, ZeroDivisor
 from fieldmaps.field import Field
-from fieldmaps.poly import Poly, cofactors, common_divisor, constant, monomial, variable
+from fieldmaps.poly import Poly, cofactors, common_divisor, constant, monomial, power_of_x, variable
 from tests.plain import (
     F2,
     F3,
@@ -311,6 +311,15 @@ class TestPowers(unittest.TestCase):
         m = poly(F2, 1, 1, 0, 1)
         self.assertEqual(variable(F2).power_modulo(7 * 10**30 + 1, m), variable(F2))
         self.assertEqual(variable(F397).power_modulo(397 * 396**20, poly(F397, 395, 1)), poly(F397, 1))
+
+
+    def test_power_of_x(self):
+        for field in (F2, F3, F4):
+            for m in sample(field)[1:]:
+                for k in range(4):
+                    self.assertEqual(power_of_x(m, k), monomial(field, field.one(), field.q**k) % m)
+        with self.assertRaises(ZeroDivisor):
+            power_of_x(nothing(F9), 0)
 
 
 class TestPut(unittest.TestCase):

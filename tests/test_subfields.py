@@ -5,26 +5,31 @@ from itertools import product
 
 from fieldmaps.errors import Refused
 from fieldmaps.field import Field
-from fieldmaps.poly import variable
 from fieldmaps.subfields import common_degree, degree_of, is_in_subfield, least_of_degree, subfield
-from tests.plain import F2, F3, F4, F5, F8, F9, F16, F25, F27, F49, F81, F256, F343, F361, F397, ODD_VALUES
+from tests.plain import (
+    F2,
+    F3,
+    F4,
+    F5,
+    F8,
+    F9,
+    F16,
+    F25,
+    F27,
+    F49,
+    F64,
+    F81,
+    F256,
+    F343,
+    F361,
+    F397,
+    divisors_of,
+    no_degrees,
+)
 
-F64 = Field(2, (1, 1, 0, 0, 0, 0, 1))
 F128 = Field(2, (1, 1, 0, 0, 0, 0, 0, 1))
 F243 = Field(3, (1, 2, 0, 0, 0, 1))
 FIELDS = (F2, F3, F4, F5, F8, F9, F16, F25, F27, F49, F64, F81, F128, F243, F256, F343, F361, F397)
-
-
-def divisors_of(n):
-    return [d for d in range(1, n + 1) if n % d == 0]
-
-
-def no_degrees(n):
-    """Values that are no positive divisor of n."""
-    values = [value for value in ODD_VALUES if value is True or isinstance(value, bool) or not isinstance(value, int)]
-    values.extend([d for d in range(-3, 2 * n + 2) if d <= 0 or n % d != 0])
-    values.extend([-n, 10**30, -1, F4, variable(F4)])
-    return values
 
 
 def fixed_by_powers(field, d):

@@ -13,9 +13,11 @@ from fieldmaps.whole import (
     inverse_modulo,
     is_integer,
     is_prime,
+    least_exponent,
     moebius,
     power_modulo,
     power_within,
+    prime_divisors,
     prime_powers,
 )
 from tests.small_fields import FOUR
@@ -250,6 +252,16 @@ class TestHelpers(unittest.TestCase):
         self.assertEqual(digits(1234, 10, 4), (4, 3, 2, 1))
         self.assertEqual(digits(1234, 10, 2), (4, 3))
         self.assertEqual(digits(7, 3, 0), ())
+
+    def test_prime_divisors(self):
+        self.assertEqual(prime_divisors(1), ())
+        self.assertEqual(prime_divisors(360), (2, 3, 5))
+        self.assertEqual(prime_divisors(97), (97,))
+
+    def test_least_exponent(self):
+        for least in range(1, 40):
+            for multiple in range(1, 40):
+                self.assertEqual(least_exponent(least * multiple, lambda k: k % least == 0), least)
 
 
 if __name__ == "__main__":
